@@ -1,0 +1,96 @@
+"""A part of the language's rules (L1, L2, L6 to L8, L10, L12, L14, L17), held against the package's files."""
+
+import ast
+import builtins
+import pathlib
+import re
+import unittest
+
+PACKAGE = pathlib.Path(__file__).resolve().parent.parent / "twowaypen"
+FILES = sorted(PACKAGE.glob("*.py"))
+BUILT_IN = set(
+    "len range enumerate zip min max sum abs sorted reversed int str bool list tuple dict set frozenset isinstance "
+    "ord repr any all divmod Exception ValueError TypeError KeyError IndexError LookupError ZeroDivisionError "
+    "ArithmeticError OverflowError RuntimeError NotImplementedError AttributeError StopIteration".split()
+)
+SPECIAL = {"__init__", "__eq__", "__repr__", "__str__", "__len__"}
+WORDS = re.compile(
+    r"\b(type|typing|typing_extensions|enum|Enum|IntEnum|StrEnum|Flag|IntFlag|Generic|Protocol|ABC|ABCMeta"
+    r"|namedtuple|NamedTuple|TypedDict|TYPE_CHECKING|abstractmethod)\b|dataclass|overload|contextmanager"
+)
+NODES = tuple(getattr(ast, name) for name in (
+    "Module Import ImportFrom alias FunctionDef arguments arg ClassDef Assign AugAssign If While For Return Break "
+    "Continue Pass Raise Try ExceptHandler Expr Lambda Constant Name Attribute Subscript Slice Call keyword List Tuple "
+    "Dict Set BinOp UnaryOp BoolOp Compare IfExp ListComp comprehension JoinedStr FormattedValue expr_context "
+    "operator unaryop boolop cmpop"
+).split())
+BARRED = (ast.Div, ast.MatMult)
+
+
+def nodes_of(file):
+    return list(ast.walk(ast.parse(file.read_text(encoding="utf-8"))))
+
+
+def names_of(node):
+    if isinstance(node, ast.Name):
+        return [node.id]
+    if isinstance(node, ast.Attribute):
+        return [node.attr]
+    if isinstance(node, (ast.FunctionDef, ast.ClassDef)):
+        return [node.name]
+    return [node.arg] if isinstance(node, ast.arg) else []
+
+
+class Form(unittest.TestCase):
+    def test_files(self):
+        self.assertIn(PACKAGE / "__init__.py", FILES)
+        others = [each for each in PACKAGE.iterdir() if each.name != "__pycache__"]
+        self.assertEqual(sorted(others), FILES)
+        for file in FILES:
+            self.assertRegex(file.name, r"\A[a-z0-9_]+\.py\Z")
+
+    def test_sizes_and_signs(self):
+        for file in FILES:
+            text = file.read_text(encoding="utf-8")
+            self.assertLessEqual(len(text.split("\n")), 401, file)
+            self.assertRegex(text, r"\A[\n -~]*\Z", file)
+            self.assertLessEqual(max(len(row) for row in text.split("\n")), 120, file)
+            for node in nodes_of(file):
+                if isinstance(node, ast.FunctionDef):
+                    self.assertLessEqual(node.end_lineno - node.lineno + 1, 40, (file, node.name))
+
+    def test_words(self):
+        for file in FILES:
+            self.assertIsNone(WORDS.search(file.read_text(encoding="utf-8")), file)
+
+    def test_imports(self):
+        for file in FILES:
+            for node in nodes_of(file):
+                self.assertNotIsInstance(node, ast.Import, file)
+                if isinstance(node, ast.ImportFrom):
+                    self.assertEqual(node.level, 0, file)
+                    self.assertTrue((PACKAGE.parent / (node.module.replace(".", "/") + ".py")).is_file(), node.module)
+
+    def test_statements_and_expressions(self):
+        for file in FILES:
+            for node in nodes_of(file):
+                self.assertIsInstance(node, NODES, (file, node))
+                self.assertNotIsInstance(node, BARRED, (file, node))
+                if isinstance(node, ast.Assign):
+                    self.assertEqual(len(node.targets), 1, (file, node.lineno))
+                if isinstance(node, (ast.FunctionDef, ast.ClassDef)):
+                    self.assertEqual(node.decorator_list, [], (file, node.name))
+                if isinstance(node, ast.Constant):
+                    self.assertNotIsInstance(node.value, (float, bytes), (file, node.lineno))
+
+    def test_names(self):
+        for file in FILES:
+            for node in nodes_of(file):
+                for name in names_of(node):
+                    self.assertTrue(name in SPECIAL or not name.startswith("_"), (file, name))
+                if isinstance(node, ast.Name) and hasattr(builtins, node.id):
+                    self.assertIn(node.id, BUILT_IN, (file, node.lineno))
+
+
+if __name__ == "__main__":
+    unittest.main()
