@@ -1,4 +1,5 @@
-"""A part of the language's rules (L1, L2, L6 to L8, L10, L12, L14, L17), held against the package's files."""
+"""A part of the language's rules (L1, L2, L4, L6 to L8, L10, L12, L14, L15, L17, L19, L20, L25), held against the
+package's files."""
 
 import ast
 import builtins
@@ -25,6 +26,11 @@ NODES = tuple(getattr(ast, name) for name in (
     "operator unaryop boolop cmpop"
 ).split())
 BARRED = (ast.Div, ast.MatMult)
+METHODS = set(
+    "append clear copy count endswith extend find get index insert isalnum isalpha isdigit islower isspace isupper "
+    "items join keys ljust lower lstrip partition pop remove replace reverse rfind rjust rpartition rsplit rstrip "
+    "setdefault split splitlines startswith strip update upper values zfill bit_length".split()
+)
 
 
 def nodes_of(file):
@@ -90,6 +96,40 @@ class Form(unittest.TestCase):
                     self.assertTrue(name in SPECIAL or not name.startswith("_"), (file, name))
                 if isinstance(node, ast.Name) and hasattr(builtins, node.id):
                     self.assertIn(node.id, BUILT_IN, (file, node.lineno))
+
+    def test_nothing_is_called_like_a_name_of_pythons_own(self):
+        for file in FILES:
+            nodes = nodes_of(file)
+            taken = [name.asname or name.name for node in nodes if isinstance(node, ast.ImportFrom)
+                     for name in node.names]
+            for node in nodes:
+                name = node.arg if isinstance(node, ast.arg) else None
+                if isinstance(node, ast.Name) and isinstance(node.ctx, ast.Store):
+                    name = node.id
+                if name is not None:
+                    self.assertFalse(hasattr(builtins, name), (file, name))
+                    self.assertNotIn(name, taken, file)
+
+    def test_parameters_are_plain(self):
+        for file in FILES:
+            for node in nodes_of(file):
+                if isinstance(node, ast.arguments):
+                    self.assertEqual((node.vararg, node.kwarg, node.kwonlyargs, node.posonlyargs), (None, None, [], []))
+
+    def test_methods(self):
+        own = {node.name for file in FILES for node in nodes_of(file) if isinstance(node, ast.FunctionDef)}
+        for file in FILES:
+            for node in nodes_of(file):
+                if isinstance(node, ast.Call) and isinstance(node.func, ast.Attribute):
+                    self.assertIn(node.func.attr, METHODS | own, (file, node.lineno))
+
+    def test_is_and_handlers(self):
+        for file in FILES:
+            for node in nodes_of(file):
+                if isinstance(node, ast.Compare) and any(isinstance(sign, (ast.Is, ast.IsNot)) for sign in node.ops):
+                    self.assertIsInstance(node.comparators[-1], ast.Constant, (file, node.lineno))
+                if isinstance(node, ast.ExceptHandler):
+                    self.assertIsNotNone(node.type, (file, node.lineno))
 
 
 if __name__ == "__main__":
