@@ -1,5 +1,7 @@
 """Walkers and gatherers, and a second way to go through each, for the tests."""
 
+import collections
+import itertools
 import random
 import re
 
@@ -79,6 +81,46 @@ def drawn_walkers(count):
         yield letters, states, rules
 
 
+# From both sides c is gone over to the right; a and b send the walker to and fro between them.
+TO_AND_FRO = {
+    (0, "c"): ("w", "right", 0),
+    (0, "a"): ("p", "right", 0),
+    (0, "b"): ("q", "left", 1),
+    (1, "a"): ("r", "right", 2),
+    (2, "b"): ("s", "left", 3),
+    (3, "a"): ("t", "right", 3),
+    (3, "b"): ("u", "right", 3),
+    (3, "c"): ("v", "right", 3),
+}
+
+
+def drawn_sweepers(letters, signs, count):
+    """Rules of walkers that mostly go from mark to mark: (states, rules).
+
+    Some states go right, some left; a mark turns the walker into the next
+    state. Some rules go another way, and some are missing.
+    """
+    draw = random.Random(letters + signs)
+    for _ in range(count):
+        states = draw.randint(1, 4)
+        wild, missing = draw.choice([0, 0, 0.15, 0.4]), draw.choice([0, 0.03])
+        moves = ["right", draw.choice(["left", "left", "right"]), "right", draw.choice(["left", "right"])]
+        rules = {}
+        for state, sign in itertools.product(range(states), "<" + letters + ">"):
+            move, following = moves[state], state
+            turned = {("left", "<"): "right", ("right", ">"): "left"}.get((move, sign))
+            if turned is not None and state + 1 < states:
+                move, following = turned, state + 1
+            if sign == "<":
+                move = "right"
+            elif draw.random() < wild:
+                move, following = draw.choice(["left", "right"]), draw.randrange(states)
+            if draw.random() >= missing:
+                piece = "".join(draw.choices(signs, k=draw.choice([0, 1, 1, 2])))
+                rules[(state, sign)] = (piece, move, following)
+        yield states, rules
+
+
 def drawn_texts(letters, lengths):
     draw = random.Random(letters)
     return ["".join(draw.choices(letters, k=length)) for length in lengths]
@@ -124,7 +166,7 @@ def mirror_fields(letters):
     return letters, 2, ("8", "9"), rules, {0: (0, "00", 1)}
 
 
-def drawn_rows(draw, boxes):
+def drawn_rows(draw, boxes, lengths=(1, 2, 20)):
     """A row for each box, none of them with a box that stands in another one."""
     rows = [[] for _ in range(boxes)]
     numbers = [box for box in range(boxes) if draw.random() < 0.9]
@@ -133,7 +175,7 @@ def drawn_rows(draw, boxes):
         draw.choice(rows).append(box)
     for row in rows:
         for _ in range(draw.choice([0, 0, 1, 2])):
-            text = "".join(draw.choices("ab01", k=draw.choice([1, 2, 20])))
+            text = "".join(draw.choices("ab01", k=draw.choice(lengths)))
             row.insert(draw.randint(0, len(row)), text)
     return tuple(tuple(row) for row in rows)
 
@@ -157,6 +199,191 @@ def drawn_gatherers(count):
             elif kind < 0.9:
                 ends[state] = draw.choice(["stuck", "round"])
         yield letters, boxes, begins, rules, ends
+
+
+def small_gatherers(count):
+    """Like the others, but with few boxes and states and short texts of a, b, 0 and 1."""
+    draw = random.Random(22)
+    for _ in range(count):
+        letters = "".join(draw.sample("abz", draw.randint(1, 3)))
+        boxes = draw.randint(0, 3)
+        states = [0] + draw.sample([1, 2, 5, 42], draw.randint(0, 2))
+        begins = tuple("".join(draw.choices("ab01", k=draw.choice([0, 0, 1, 3]))) for _ in range(boxes))
+        keys = [(state, letter) for state in states for letter in letters if draw.random() < 0.95]
+        draw.shuffle(keys)
+        rules = {key: (draw.choice(states), drawn_rows(draw, boxes, (1, 1, 2))) for key in keys}
+        ends = {}
+        for state in states:
+            row = sum(drawn_rows(draw, boxes, (1, 2)), draw.choice([(), ("ab",), ("b", "0")]))
+            ends[state] = draw.choice([row, row, row, row, row, "stuck", "round"])
+        if draw.random() < 0.1:
+            del ends[draw.choice(states)]
+        yield letters, boxes, begins, rules, ends
+
+
+def gatherer_fields(gatherer):
+    return gatherer.letters, gatherer.boxes, gatherer.begins, gatherer.rules, gatherer.ends
+
+
+def passage_fields(passage):
+    return passage.starts, passage.nexts, passage.rows
+
+
+def one_behind_the_other(fields, states, rules, text):
+    """The word, the text and the origins of a walker on the text that a gatherer tells."""
+    word, written, origins = unfolded(*fields[2:], text)
+    if word != "told":
+        return word, written, origins
+    word, written, places = stepped(rules, states, written)
+    return word, written, [origins[place - 1] if place > 0 else 0 for place in places]
+
+
+def gone_along(rules, states, stretch, entry):
+    """The pairs of a place and a state, from an entry on, and the exit, or "stuck" or "round"."""
+    place, state = (0, entry) if entry < states else (len(stretch) - 1, entry - states)
+    pairs = []
+    for _ in range(len(stretch) * states + 1):
+        if not 0 <= place < len(stretch):
+            return pairs, state if place < 0 else states + state
+        if (state, stretch[place]) not in rules:
+            return pairs, "stuck"
+        pairs.append((place, state))
+        _, move, state = rules[(state, stretch[place])]
+        place = {"left": place - 1, "right": place + 1}[move]
+    return pairs, "round"
+
+
+def written_at(rules, stretch, pairs):
+    return [rules[(state, stretch[place])][0] for place, state in pairs]
+
+
+def as_row(pieces):
+    row = []
+    for kind, same in itertools.groupby([piece for piece in pieces if piece != ""], key=type):
+        row += ["".join(same)] if kind is str else same
+    return tuple(row)
+
+
+def nodes_along(rules, states, stretch):
+    """Starts, nexts, and for each node the pairs from it on up to the next one, by going along all walks."""
+    walks = [gone_along(rules, states, stretch, entry) for entry in range(2 * states)]
+    outward = [(pairs, end) for pairs, end in walks if end not in ("stuck", "round")]
+    firsts = {pairs[0] for pairs, _ in outward}
+    come_from = collections.defaultdict(set)
+    for pairs, _ in outward:
+        for one, other in zip(pairs, pairs[1:]):
+            come_from[other].add(one)
+    nodes, nexts, chains = {}, {}, {}
+    for pairs, _ in outward:
+        for pair in pairs:
+            if pair in firsts or len(come_from[pair]) >= 2:
+                nodes.setdefault(pair, len(nodes))
+    for pairs, end in outward:
+        marks = [at for at, pair in enumerate(pairs) if pair in nodes] + [len(pairs)]
+        for at, to in zip(marks, marks[1:]):
+            nexts[pairs[at]] = nodes[pairs[to]] if to < len(pairs) else -1 - end
+            chains[pairs[at]] = pairs[at:to]
+    starts = tuple(end if isinstance(end, str) else nodes[pairs[0]] for pairs, end in walks)
+    return starts, tuple(nexts[node] for node in nodes), [chains[node] for node in nodes]
+
+
+def passage_along(rules, states, stretch):
+    """The starts, nexts and rows of a stretch of one sign or more."""
+    starts, nexts, chains = nodes_along(rules, states, stretch)
+    return starts, nexts, tuple(as_row(written_at(rules, stretch, chain)) for chain in chains)
+
+
+def fate_along(rules, states, stretch, entry):
+    pairs, end = gone_along(rules, states, stretch, entry)
+    return (end, ()) if end in ("stuck", "round") else (end, as_row(written_at(rules, stretch, pairs)))
+
+
+class Boxed:
+    """A stretch made of texts and of held texts, each of these (text, box).
+
+    For each node of a held text's passage there is a box, numbered from
+    the one told on: what is written from the node on stands in it. So at
+    such a node the box is told, and at the other pairs there nothing.
+    """
+
+    def __init__(self, rules, states, pieces):
+        self.rules, self.states = rules, states
+        self.stretch = "".join(piece if isinstance(piece, str) else piece[0] for piece in pieces)
+        self.held, ahead = {}, 0
+        for piece in pieces:
+            text = piece if isinstance(piece, str) else piece[0]
+            if text != piece and text != "":
+                self.held.update({(ahead + at, state): "" for at in range(len(text)) for state in range(states)})
+                for box, chain in enumerate(nodes_along(rules, states, text)[2], start=piece[1]):
+                    self.held[(ahead + chain[0][0], chain[0][1])] = box
+            ahead += len(text)
+
+    def row(self, pairs):
+        written = written_at(self.rules, self.stretch, pairs)
+        return as_row([self.held.get(pair, piece) for pair, piece in zip(pairs, written)])
+
+    def passage(self):
+        if self.stretch == "":
+            return None
+        starts, nexts, chains = nodes_along(self.rules, self.states, self.stretch)
+        return starts, nexts, tuple(self.row(chain) for chain in chains)
+
+    def end(self):
+        pairs, end = gone_along(self.rules, self.states, self.stretch, 0)
+        return end if end in ("stuck", "round") else self.row(pairs)
+
+
+def held_texts(rules, states, texts):
+    """Each text with the number of the first box for its passage; and how many boxes there are."""
+    held, boxes = [], 0
+    for text in texts:
+        held.append((text, boxes))
+        boxes += len(nodes_along(rules, states, text)[2]) if text else 0
+    return held, boxes
+
+
+def rows_in(passages):
+    return [row for passage in passages if passage for row in passage[2]]
+
+
+def made_along(fields, states, rules):
+    """What is to be made of a gatherer and a walker behind it: (letters, boxes, begins, rules, ends).
+
+    The first texts that came up in the boxes stand for all texts of a state.
+    """
+    letters, _, begins, its_rules, its_ends = fields
+    found, todo, made_rules, made_ends, sizes = {}, [], {}, {}, []
+
+    def number(state, texts):
+        passages = [Boxed(rules, states, [text]).passage() for text in texts]
+        key = (state, tuple(passage and passage[:2] for passage in passages))
+        if key not in found:
+            found[key] = len(found)
+            todo.append((state, texts))
+        return found[key]
+
+    number(0, begins)
+    for at in itertools.takewhile(lambda at: at < len(todo), itertools.count()):
+        state, texts = todo[at]
+        held, boxes = held_texts(rules, states, texts)
+        sizes.append(boxes)
+
+        def boxed(row):
+            return Boxed(rules, states, [held[piece] if isinstance(piece, int) else piece for piece in row])
+
+        for letter in letters:
+            if (state, letter) in its_rules:
+                following, rows = its_rules[(state, letter)]
+                stretches = [boxed(row) for row in rows]
+                to = number(following, tuple(each.stretch for each in stretches))
+                made_rules[(at, letter)] = to, rows_in(each.passage() for each in stretches)
+        if state in its_ends:
+            end = its_ends[state]
+            made_ends[at] = end if isinstance(end, str) else boxed(("<", *end, ">")).end()
+    most = max(sizes)
+    made_rules = {key: (to, tuple(rows + [()] * (most - len(rows)))) for key, (to, rows) in made_rules.items()}
+    made_begins = ["".join(row) for row in rows_in(Boxed(rules, states, [text]).passage() for text in begins)]
+    return letters, most, tuple(made_begins + [""] * (most - len(made_begins))), made_rules, made_ends
 
 
 WALKER_TEXT = """walker ba 3

@@ -1,4 +1,4 @@
-"""A part of the language's rules (L1, L2, L4, L6 to L8, L10, L12, L14, L15, L17, L19, L20, L25), held against the
+"""A part of the language's rules (L1, L2, L4, L6 to L8, L10, L12, L14 to L20, L25), held against the
 package's files."""
 
 import ast
@@ -76,6 +76,33 @@ class Form(unittest.TestCase):
                 if isinstance(node, ast.ImportFrom):
                     self.assertEqual(node.level, 0, file)
                     self.assertTrue((PACKAGE.parent / (node.module.replace(".", "/") + ".py")).is_file(), node.module)
+
+    def test_no_two_files_draw_from_one_another(self):
+        drawn = {file.stem: {node.module.rpartition(".")[2] for node in nodes_of(file)
+                             if isinstance(node, ast.ImportFrom)} for file in FILES}
+        while drawn:
+            free = [name for name, others in drawn.items() if not others & set(drawn)]
+            self.assertNotEqual(free, [], drawn)
+            for name in free:
+                del drawn[name]
+
+    def test_names_are_drawn_from_the_file_that_defines_them(self):
+        for file in FILES:
+            for node in nodes_of(file):
+                if isinstance(node, ast.ImportFrom):
+                    source = ast.parse((PACKAGE.parent / (node.module.replace(".", "/") + ".py")).read_text())
+                    defined = {name for each in source.body for name in names_of(each)}
+                    defined |= {target.id for each in source.body if isinstance(each, ast.Assign)
+                                for target in each.targets}
+                    for name in node.names:
+                        self.assertIn(name.name, defined, (file, node.module))
+
+    def test_no_name_is_a_method_and_a_value(self):
+        nodes = [node for file in FILES for node in nodes_of(file)]
+        methods = {each.name for node in nodes if isinstance(node, ast.ClassDef) for each in node.body
+                   if isinstance(each, ast.FunctionDef)}
+        values = {node.attr for node in nodes if isinstance(node, ast.Attribute) and isinstance(node.ctx, ast.Store)}
+        self.assertEqual(methods & values, set())
 
     def test_statements_and_expressions(self):
         for file in FILES:

@@ -1,5 +1,6 @@
 """Writers written as texts."""
 
+from twowaypen.rows import together
 from twowaypen.walkers import LEFT_MARK, RIGHT_MARK, Walker
 
 
@@ -25,15 +26,8 @@ def begin_word(begin):
 
 
 def row_word(row):
-    parts = []
-    for piece in row:
-        if isinstance(piece, int):
-            parts.append("#" + str(piece))
-        elif parts != [] and not parts[-1].startswith("#"):
-            parts[-1] = parts[-1] + piece
-        else:
-            parts.append(piece)
-    return "_" if parts == [] else ".".join(parts)
+    words = ["#" + str(piece) if isinstance(piece, int) else piece for piece in together(row)]
+    return "_" if words == [] else ".".join(words)
 
 
 def gatherer_rule(key, rule):
