@@ -221,6 +221,99 @@ def small_gatherers(count):
         yield letters, boxes, begins, rules, ends
 
 
+def drawn_ways_back(count, longest=20):
+    """Gatherers whose states can be gone back: (letters, boxes, begins, rules, ends)."""
+    draw = random.Random(24)
+    for _ in range(count):
+        letters = "".join(draw.sample("abyz09", draw.randint(1, 3)))
+        boxes = draw.choice([0, 1, 1, 2, 2, 3, 4, 8])
+        states = [0] + draw.sample([1, 2, 3, 10, 42, 9999], draw.randint(0, 3))
+        begins = tuple("".join(draw.choices("xy5", k=draw.choice([0, 1, longest]))) for _ in range(boxes))
+        led = [(letter, *pair) for letter in letters for pair in zip(states, draw.sample(states, len(states)))]
+        rules = {}
+        for letter, state, following in draw.sample(led, len(led)):
+            if draw.random() < 0.92:
+                rules[(state, letter)] = following, drawn_rows(draw, boxes, (1, 2, longest))
+        ends = {}
+        for state in draw.sample(states, len(states)):
+            row = sum(drawn_rows(draw, boxes), draw.choice([(), ("ab",), ("b", "0")]))
+            ends[state] = draw.choice([row, row, row, row, row, "stuck", "round"])
+        if draw.random() < 0.15:
+            del ends[draw.choice(states)]
+        yield letters, boxes, begins, rules, ends
+
+
+def states_in(rules, ends=()):
+    """0 and the states that stand in the rules, and in the ends where they are handed in."""
+    return {0} | {key[0] for key in rules} | {rule[0] for rule in rules.values()} | set(ends)
+
+
+def gone_over(rules, state, held, text):
+    """The state and what the boxes hold behind the text; None where there is no rule."""
+    for letter in text:
+        if (state, letter) not in rules:
+            return None
+        state, rows = rules[(state, letter)]
+        held = ["".join(held[piece] if isinstance(piece, int) else piece for piece in row) for row in rows]
+    return state, held
+
+
+def comes_through(fields, box, ahead, following):
+    """Whether the box holds a sign behind the first text, and both are told with it in what is told.
+
+    What the box holds then is changed into a sign of its own, which is looked for in what is told.
+    """
+    _, _, begins, rules, ends = fields
+    came = gone_over(rules, 0, begins, ahead)
+    if came is None or came[1][box] == "":
+        return False
+    held = ["!" if number == box else "" for number in range(len(begins))]
+    went = gone_over(rules, came[0], held, following)
+    end = "stuck" if went is None else ends.get(went[0], "stuck")
+    return not isinstance(end, str) and any(isinstance(piece, int) and "!" in went[1][piece] for piece in end)
+
+
+def serving_boxes(fields):
+    """The boxes that serve, rising, told by all that can come up: which boxes hold something, and where each goes."""
+    letters, boxes, begins, rules, ends = fields
+    todo = [(0, frozenset(box for box in range(boxes) if begins[box]))]
+    full = set(todo)
+    while todo:
+        state, holding = todo.pop()
+        for letter in letters:
+            if (state, letter) in rules:
+                following, rows = rules[(state, letter)]
+                holds = frozenset(
+                    box for box, row in enumerate(rows) if any(isinstance(p, str) or p in holding for p in row)
+                )
+                if (following, holds) not in full:
+                    full.add((following, holds))
+                    todo.append((following, holds))
+    return sorted({box for state, holding in full for box in holding if is_told_from(fields, state, box)})
+
+
+def is_told_from(fields, state, box):
+    letters, _, _, rules, ends = fields
+    todo = [(state, box)]
+    seen = set(todo)
+    while todo:
+        state, box = todo.pop()
+        end = ends.get(state, ())
+        if not isinstance(end, str) and box in end:
+            return True
+        for letter in letters:
+            following, rows = rules.get((state, letter), (0, ()))
+            for number, row in enumerate(rows):
+                if box in row and (following, number) not in seen:
+                    seen.add((following, number))
+                    todo.append((following, number))
+    return False
+
+
+def all_texts(letters, most):
+    return ["".join(signs) for length in range(most + 1) for signs in itertools.product(letters, repeat=length)]
+
+
 def gatherer_fields(gatherer):
     return gatherer.letters, gatherer.boxes, gatherer.begins, gatherer.rules, gatherer.ends
 

@@ -1,4 +1,4 @@
-"""A part of the language's rules (L1, L2, L4, L6 to L8, L10, L12, L14 to L20, L25), held against the
+"""The greater part of the language's rules (L1 to L10, L12, L14 to L27, some of them in part), held against the
 package's files."""
 
 import ast
@@ -45,6 +45,51 @@ def names_of(node):
     if isinstance(node, (ast.FunctionDef, ast.ClassDef)):
         return [node.name]
     return [node.arg] if isinstance(node, ast.arg) else []
+
+
+def with_parents(file):
+    """Each node with the nodes around it, from the inside to the outside."""
+    found = []
+
+    def go(node, around):
+        found.append((node, around))
+        for child in ast.iter_child_nodes(node):
+            go(child, [node, *around])
+
+    go(ast.parse(file.read_text(encoding="utf-8")), [])
+    return found
+
+
+def called(node):
+    """The name of a function that is called by its name, or of a method."""
+    if not isinstance(node, ast.Call):
+        return None
+    return node.func.id if isinstance(node.func, ast.Name) else getattr(node.func, "attr", None)
+
+
+def is_plain(node, functions):
+    if isinstance(node, (ast.List, ast.Tuple)):
+        return all(is_plain(each, functions) for each in node.elts)
+    if isinstance(node, ast.Dict):
+        return all(is_plain(each, functions) for each in [*node.keys, *node.values])
+    return isinstance(node, ast.Constant) or (isinstance(node, ast.Name) and node.id in functions)
+
+
+def is_walked_at_once(node, around):
+    outer = around[0]
+    if isinstance(outer, (ast.For, ast.comprehension)):
+        return outer.iter is node
+    if called(outer) in ("min", "max"):
+        return outer.args == [node]
+    if called(outer) == "join":
+        return isinstance(outer.func.value, ast.Constant)
+    return called(outer) in FIRST_IN and (outer.args[0] is node or called(outer) == "zip")
+
+
+KEYWORDS = {"sorted": {"key", "reverse"}, "min": {"key", "default"}, "max": {"key", "default"}, "sum": {"start"},
+            "enumerate": {"start"}, "zip": {"strict"}}
+WALKED = {"zip", "enumerate", "reversed", "range", "items", "keys", "values"}
+FIRST_IN = {"list", "tuple", "dict", "sorted", "sum", "any", "all", "enumerate", "zip"}
 
 
 class Form(unittest.TestCase):
@@ -157,6 +202,117 @@ class Form(unittest.TestCase):
                     self.assertIsInstance(node.comparators[-1], ast.Constant, (file, node.lineno))
                 if isinstance(node, ast.ExceptHandler):
                     self.assertIsNotNone(node.type, (file, node.lineno))
+
+    def test_the_top_of_a_file(self):
+        for file in FILES:
+            functions = []
+            for at, node in enumerate(ast.parse(file.read_text(encoding="utf-8")).body):
+                if isinstance(node, ast.FunctionDef):
+                    functions.append(node.name)
+                elif isinstance(node, ast.Assign):
+                    self.assertIsInstance(node.targets[0], ast.Name, (file, node.lineno))
+                    self.assertTrue(is_plain(node.value, functions), (file, node.lineno))
+                    for inner in getattr(node.value, "values", getattr(node.value, "elts", [])):
+                        self.assertNotIsInstance(inner, (ast.List, ast.Dict), (file, node.lineno))
+                else:
+                    docstring = isinstance(node, ast.Expr) and isinstance(node.value, ast.Constant) and at == 0
+                    self.assertTrue(docstring or isinstance(node, (ast.ImportFrom, ast.ClassDef)), (file, node.lineno))
+
+    def test_each_name_of_the_top_once(self):
+        for file in FILES:
+            body = ast.parse(file.read_text(encoding="utf-8")).body
+            names = [name for node in body for name in names_of(node)]
+            names += [node.targets[0].id for node in body if isinstance(node, ast.Assign)]
+            names += [name.name for node in body if isinstance(node, ast.ImportFrom) for name in node.names]
+            self.assertEqual(len(set(names)), len(names), file)
+
+    def test_classes(self):
+        classes = {node.name for file in FILES for node in nodes_of(file) if isinstance(node, ast.ClassDef)}
+        for file in FILES:
+            for node, around in with_parents(file):
+                if isinstance(node, ast.ClassDef):
+                    self.assertIsInstance(around[0], ast.Module, (file, node.name))
+                    self.assertLessEqual(len(node.bases), 1, (file, node.name))
+                    self.assertEqual(node.keywords, [], (file, node.name))
+                    for inner in node.body:
+                        self.assertIsInstance(inner, (ast.FunctionDef, ast.Pass), (file, node.name))
+                if isinstance(node, ast.Name) and node.id in classes:
+                    outer = around[0]
+                    fits = isinstance(outer, (ast.ClassDef, ast.ExceptHandler, ast.Raise)) or (
+                        isinstance(outer, ast.Call) and (outer.func is node or called(outer) == "isinstance")
+                    ) or (isinstance(outer, ast.Attribute) and outer.attr == "__init__")
+                    self.assertTrue(fits, (file, node.lineno))
+
+    def test_no_annotations(self):
+        for file in FILES:
+            for node in nodes_of(file):
+                self.assertNotIsInstance(node, ast.AnnAssign, file)
+                if isinstance(node, ast.FunctionDef):
+                    self.assertIsNone(node.returns, (file, node.name))
+                if isinstance(node, ast.arg):
+                    self.assertIsNone(node.annotation, (file, node.lineno))
+
+    def test_keywords(self):
+        for file in FILES:
+            for node in nodes_of(file):
+                if isinstance(node, ast.Call):
+                    self.assertLessEqual({each.arg for each in node.keywords}, KEYWORDS.get(called(node), set()),
+                                         (file, node.lineno))
+
+    def test_walked_at_once(self):
+        for file in FILES:
+            for node, around in with_parents(file):
+                if called(node) in WALKED:
+                    self.assertTrue(is_walked_at_once(node, around), (file, node.lineno))
+
+    def test_sets_stand_within_sorted_or_len_or_beside_a_comparison(self):
+        for file in FILES:
+            for node, around in with_parents(file):
+                self.assertNotIsInstance(node, ast.Set, file)
+                if called(node) in ("set", "frozenset"):
+                    outer = next(each for each in around if not isinstance(each, ast.BinOp))
+                    self.assertTrue(isinstance(outer, ast.Compare) or called(outer) in ("sorted", "len"),
+                                    (file, node.lineno))
+
+    def test_comprehensions(self):
+        for file in FILES:
+            for node in nodes_of(file):
+                if isinstance(node, ast.ListComp):
+                    self.assertEqual(len(node.generators), 1, (file, node.lineno))
+                    self.assertLessEqual(len(node.generators[0].ifs), 1, (file, node.lineno))
+
+    def test_numbers_and_texts(self):
+        for file in FILES:
+            for node in nodes_of(file):
+                if isinstance(node, ast.BinOp) and isinstance(node.op, ast.Pow):
+                    self.assertIsInstance(node.right, ast.Constant, (file, node.lineno))
+                if isinstance(node, ast.Constant) and isinstance(node.value, str):
+                    self.assertNotIn("%", node.value, (file, node.lineno))
+
+    def test_what_a_loop_walks_is_not_changed_in_it(self):
+        changes = {"append", "clear", "extend", "insert", "pop", "remove", "reverse", "setdefault", "update"}
+        for file in FILES:
+            for node in nodes_of(file):
+                if isinstance(node, ast.For):
+                    walked = {ast.unparse(each) for each in ast.walk(node.iter)
+                              if isinstance(each, (ast.Name, ast.Attribute))}
+                    for inner in [each for statement in node.body for each in ast.walk(statement)]:
+                        if called(inner) in changes and isinstance(inner.func, ast.Attribute):
+                            self.assertNotIn(ast.unparse(inner.func.value), walked, (file, inner.lineno))
+                        if isinstance(inner, ast.Subscript) and isinstance(inner.ctx, ast.Store):
+                            safe = called(node.iter) == "list"
+                            self.assertTrue(safe or ast.unparse(inner.value) not in walked, (file, inner.lineno))
+
+    def test_lists_and_dicts_of_the_top_are_only_read(self):
+        for file in FILES:
+            body = ast.parse(file.read_text(encoding="utf-8")).body
+            kept = {node.targets[0].id for node in body
+                    if isinstance(node, ast.Assign) and isinstance(node.value, (ast.List, ast.Dict))}
+            for node, around in with_parents(file):
+                if isinstance(node, ast.Name) and node.id in kept and isinstance(node.ctx, ast.Load):
+                    outer = around[0]
+                    read = isinstance(outer, ast.Subscript) and outer.value is node and isinstance(outer.ctx, ast.Load)
+                    self.assertTrue(read or isinstance(outer, ast.Compare), (file, node.lineno))
 
 
 if __name__ == "__main__":
